@@ -1,0 +1,1 @@
+"""Loopwords: words said of the boxes of a program, kept or broken."""
