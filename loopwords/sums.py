@@ -15,9 +15,8 @@ def opposite(one):
 
 def put_in(one, boxes):
     """The sum that has by each filling the value of a sum by the values of others, one for each box."""
-    numbers, last = one
-    told = [0] * len(numbers)
-    for number, (inner, more) in zip(numbers, boxes):
-        told = [before + number * by for before, by in zip(told, inner)]
-        last += number * more
-    return (tuple(told), last)
+    numbers, _ = one
+    # The others may be over more or fewer boxes than the sum that they are put into.
+    inners = [inner for inner, _ in boxes]
+    told = [value((numbers, 0), column) for column in zip(*inners)]
+    return (tuple(told), value(one, [more for _, more in boxes]))

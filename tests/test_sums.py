@@ -88,13 +88,28 @@ class TestPutIn(unittest.TestCase):
     def test_sums_without_numbers_leave_the_last_one(self):
         self.assertEqual(put_in(((4, 5), 6), [((0, 0), 2), ((0, 0), -3)]), ((0, 0), -1))
 
-    def test_its_value_is_that_by_the_values_of_the_others(self):
-        for many, some in SUMS.items():
-            for one in some:
-                for at in range(len(some)):
-                    boxes = [some[(at + box) % len(some)] for box in range(many)]
+    def test_others_over_more_boxes_than_the_first_one(self):
+        self.assertEqual(put_in(((3,), 1), [((2, 5), 4)]), ((6, 15), 13))
+        self.assertEqual(put_in(((3,), 1), [((2, 5, -1), 4)]), ((6, 15, -3), 13))
+        self.assertEqual(put_in(((3, -2), 1), [((2, 5, 7), 4), ((1, 0, -1), 9)]), ((4, 15, 23), -5))
+
+    def test_others_over_fewer_boxes_than_the_first_one(self):
+        self.assertEqual(put_in(((3, 1), 1), [((2,), 4), ((-1,), 0)]), ((5,), 13))
+        self.assertEqual(put_in(((1, 2, 3), 0), [((1,), 1), ((1,), 0), ((0,), 2)]), ((3,), 7))
+        self.assertEqual(put_in(((1, 0, 3), 5), [((1, 2), 0), ((7, 7), 7), ((-1, 1), 1)]), ((-2, 5), 8))
+
+    def test_noughts_for_each_box_of_the_others(self):
+        self.assertEqual(put_in(((0,), 4), [((2, 5, 7), 9)]), ((0, 0, 0), 4))
+        self.assertEqual(put_in(((0, 0, 0), 4), [((2,), 9)] * 3), ((0,), 4))
+
+    def test_by_each_filling_of_the_others_boxes_the_first_ones_value_by_the_others_values(self):
+        for many, inner_many in product((1, 2, 3), repeat=2):
+            for one in SUMS[many]:
+                for at in range(len(SUMS[inner_many])):
+                    boxes = [SUMS[inner_many][(at + box) % len(SUMS[inner_many])] for box in range(many)]
                     told = put_in(one, boxes)
-                    for filling in fillings(many):
+                    self.assertEqual(len(told[0]), inner_many)
+                    for filling in fillings(inner_many):
                         values = [value(box, filling) for box in boxes]
                         self.assertEqual(value(told, filling), value(one, values))
 
