@@ -39,12 +39,18 @@ class Program:
         return _loops_among(self.rows, ())
 
 
+def is_filling(program, filling):
+    """Whether this is a list of whole numbers, one for each box."""
+    if type(filling) != list or len(filling) != len(program.tops):
+        return False
+    return all([type(held) == int for held in filling])
+
+
 def is_within(program, filling):
     """Whether a filling has in each box a number from 0 to the box's top."""
-    tops = program.tops
-    if type(filling) != list or len(filling) != len(tops):
+    if not is_filling(program, filling):
         return False
-    return all([_is_from_to(held, 0, top) for held, top in zip(filling, tops)])
+    return all([0 <= held <= top for held, top in zip(filling, program.tops)])
 
 
 def rows_within(row):

@@ -7,7 +7,7 @@ from itertools import product
 
 from loopwords import programs
 from loopwords.errors import BadFilling, BadProgram, LoopError, NoLoop
-from loopwords.programs import Program, is_within
+from loopwords.programs import Program, is_filling, is_within
 
 SUM = ((1, -2), 3)
 PUT = ("put", 1, SUM)
@@ -403,6 +403,13 @@ class TestWithin(Case):
         program = Program([9, 9], ())
         for thing in ([], [0], [0, 0, 0], (0, 0), [True, 0], [0, False], [0, None], ["0", 0], "00", None, 0):
             self.assertIs(is_within(program, thing), False)
+
+    def test_a_filling_is_a_list_of_whole_numbers_one_for_each_box(self):
+        program = Program([9, 9], ())
+        for thing in ([0, 0], [-1, 10], [10 ** 60, -10 ** 60]):
+            self.assertIs(is_filling(program, thing), True)
+        for thing in ([], [0], [0, 0, 0], (0, 0), [True, 0], [0, False], [0, None], ["0", 0], "00", None, 0, Hostile()):
+            self.assertIs(is_filling(program, thing), False)
 
     def test_the_filling_stays(self):
         filling = [1, 20]
